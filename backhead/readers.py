@@ -43,12 +43,16 @@ def takes(reader, word):
     return stand in reader[2]
 
 
+def marks_of(reader):
+    marks = [False for row in reader[1]]
+    for stand in reader[2]:
+        marks[stand] = True
+    return marks
+
+
 def least(reader):
     checked_reader(reader)
-    good = [False for row in reader[1]]
-    for stand in reader[2]:
-        good[stand] = True
-    return least_reader(reader[0], reader[1], good)
+    return least_reader(reader[0], reader[1], marks_of(reader))
 
 
 def reader_of(machine, fate):

@@ -89,6 +89,25 @@ def some_readers():
             for letters in (1, 2, 3) for stands in (1, 2, 3, 5, 9, 17) for chance in (1, 2, 3, 7)]
 
 
+def ring(stands):
+    """Takes the words of one letter whose length is one less than a multiple of that many."""
+    return (1, tuple(((stand + 1) % stands,) for stand in range(stands)), (stands - 1,))
+
+
+def every(letters):
+    return (letters, ((0,) * letters,), (0,))
+
+
+def nothing(letters):
+    return (letters, ((0,) * letters,), ())
+
+
+def unlike_readers():
+    """Each two readers of unlike many letters that take all or no words."""
+    readers = [make(letters) for letters in (1, 2, 3) for make in (every, nothing)]
+    return [(one, other) for one in readers for other in readers if one[0] != other[0]]
+
+
 # Goes to the right; a 1 sends it back in room 1, which ends at a 0 with yes and
 # goes round between the left wall and a 1 behind it.
 BACK_AT_ONE = (2, (

@@ -4,16 +4,12 @@ from backhead.doings import doings
 from backhead.errors import NoFate, NoMachine, NoReader, NoWord
 from backhead.machines import run
 from backhead.readers import checked_reader, least, reader_of, takes
-from samples import (BACK_AT_ONE, NEVER_ENDS, SHUTTLE, Dice, odd_things, some_machines, some_reader, some_readers,
-                     words_up_to)
+from samples import (BACK_AT_ONE, NEVER_ENDS, SHUTTLE, Dice, odd_things, ring, some_machines, some_reader,
+                     some_readers, words_up_to)
 from test_doings import sweeper
 
 FATES = ("yes", "no", "round")
 EVEN = (1, ((1,), (0,)), (0,))
-
-
-def ring(stands):
-    return (1, tuple(((stand + 1) % stands,) for stand in range(stands)), (stands - 1,))
 
 
 class CheckedReader(unittest.TestCase):
